@@ -7,32 +7,7 @@ import (
 	"tether/api"
 )
 
-// A snapshot with a guid of this store that Snap did not take is made from within.
-func TestP6NumbersThatAreThereAreSkipped(t *testing.T) {
-	s, _ := New(7, 1)
-	s.add(7000001, 5)
-	s.add(7000003, 5)
-	s.add(7000004, 5)
-	s.Mark(7000004)
-	s.Destroy(7000004)
-	for _, want := range []int{7000002, 7000005, 7000006} {
-		if guid, errno := s.Snap(1); guid != want || errno != api.OK {
-			t.Errorf("Snap(1) = %d, %d, want %d, 0", guid, errno, want)
-		}
-	}
-}
-
-func TestP6NumbersThatWereSkippedStayBehind(t *testing.T) {
-	s, _ := New(7, 1)
-	s.add(7000001, 5)
-	for _, want := range []int{7000002, 7000003} {
-		if guid, errno := s.Snap(1); guid != want || errno != api.OK {
-			t.Errorf("Snap(1) = %d, %d, want %d, 0", guid, errno, want)
-		}
-		s.Destroy(want)
-	}
-}
-
+// That nearly a million snapshots were taken is made from within.
 func TestP6TheLastNumberIsThere(t *testing.T) {
 	s, _ := New(7, 1)
 	s.taken = api.Thousands - 3
@@ -46,21 +21,6 @@ func TestP6TheLastNumberIsThere(t *testing.T) {
 	s.Destroy(7999999)
 	if guid, errno := s.Snap(1); guid != 7999999 || errno != api.OK {
 		t.Errorf("Snap(1) = %d, %d, want 7999999, 0", guid, errno)
-	}
-}
-
-// The marks are in the order in which their snapshots came, which need not be that of their guids.
-func TestP7MarksInTheOrderOfComing(t *testing.T) {
-	s, _ := New(7, 1)
-	for _, guid := range []int{9000001, 5000001, 7000009} {
-		s.add(guid, 1)
-	}
-	for _, guid := range []int{5000001, 7000009, 9000001} {
-		s.Mark(guid)
-	}
-	marks := s.Marks()
-	if len(marks) != 3 || marks[0] != 9000001 || marks[1] != 5000001 || marks[2] != 7000009 {
-		t.Errorf("Marks() = %v", marks)
 	}
 }
 
@@ -90,11 +50,14 @@ func calls(guid int) map[string]func(*Store) {
 		"Mark":    func(s *Store) { s.Mark(guid) },
 		"Unmark":  func(s *Store) { s.Unmark(guid) },
 		"Marks":   func(s *Store) { s.Marks() },
+		"Send":    func(s *Store) { s.Send(0, guid) },
+		"Receive": func(s *Store) { s.Receive("") },
+		"Log":     func(s *Store) { s.Log() },
 	}
 }
 
 // While another call is under way none answers.
-func TestP5ToP7EachCallWaitsForTheLock(t *testing.T) {
+func TestP5ToP10EachCallWaitsForTheLock(t *testing.T) {
 	s, _ := New(7, 1)
 	guid, _ := s.Snap(1)
 	for name, call := range calls(guid) {

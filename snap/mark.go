@@ -4,6 +4,7 @@ import (
 	"slices"
 
 	"tether/api"
+	"tether/wire"
 )
 
 // mark is the memory of a snapshot, which may be gone: its guid, and when it came.
@@ -27,6 +28,7 @@ func (s *Store) Mark(guid int) api.Errno {
 	}
 	s.marks = append(s.marks, mark{guid, s.snapshots[at].came})
 	slices.SortFunc(s.marks, func(a, b mark) int { return a.came - b.came })
+	s.note(wasMark, wire.Number(guid))
 	return api.OK
 }
 
@@ -39,6 +41,7 @@ func (s *Store) Unmark(guid int) api.Errno {
 		return api.ErrNone
 	}
 	s.marks = slices.Delete(s.marks, at, at+1)
+	s.note(wasUnmark, wire.Number(guid))
 	return api.OK
 }
 

@@ -4,6 +4,7 @@ import (
 	"slices"
 
 	"tether/api"
+	"tether/wire"
 )
 
 // snapshot is one that is there; came is its place among all that ever came to the store.
@@ -26,6 +27,7 @@ func (s *Store) Snap(time int) (int, api.Errno) {
 	s.taken = number
 	guid := s.guidOf(number)
 	s.add(guid, time)
+	s.note(wasSnap, wire.Number(time))
 	return guid, api.OK
 }
 
@@ -46,8 +48,8 @@ func (s *Store) guidOf(number int) int {
 func (s *Store) add(guid, time int) {
 	s.came++
 	s.snapshots = append(s.snapshots, snapshot{api.Snapshot{Guid: guid, Time: time}, s.came})
-	for block, bytes := range s.volume {
-		s.then[place{guid, block}] = bytes
+	for block, now := range s.volume {
+		s.then[place{guid, block}] = now
 	}
 }
 
@@ -72,8 +74,8 @@ func (s *Store) At(guid int, block int) (string, api.Errno) {
 	if !s.hasBlock(block) {
 		return "", api.ErrArg
 	}
-	bytes := s.then[place{guid, block}]
-	return string(bytes[:]), api.OK
+	was := s.then[place{guid, block}]
+	return string(was.bytes[:]), api.OK
 }
 
 // Hold holds a snapshot (P7).
@@ -88,6 +90,7 @@ func (s *Store) Hold(guid int) api.Errno {
 		return api.ErrFull
 	}
 	s.snapshots[i].Holds++
+	s.note(wasHold, wire.Number(guid))
 	return api.OK
 }
 
@@ -103,6 +106,7 @@ func (s *Store) Release(guid int) api.Errno {
 		return api.ErrArg
 	}
 	s.snapshots[i].Holds--
+	s.note(wasRelease, wire.Number(guid))
 	return api.OK
 }
 
@@ -121,8 +125,13 @@ func (s *Store) Destroy(guids ...int) api.Errno {
 	if held {
 		return api.ErrHeld
 	}
+	told := ""
 	for _, guid := range guids {
 		s.remove(guid)
+		told += wire.Number(guid)
+	}
+	if told != "" {
+		s.note(wasDestroy, told)
 	}
 	return api.OK
 }

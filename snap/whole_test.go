@@ -47,18 +47,24 @@ func TestP1AnErrorChangesNothing(t *testing.T) {
 	guids := takeSnaps(t, s, api.MaxSnaps)
 	s.Hold(guids[0])
 	s.Mark(guids[1])
-	before := stateOf(s, 2)
+	s.Write(0, "late")
+	before := allOf(s, 2)
 	ask := func(what string, errno api.Errno) {
 		t.Helper()
-		if after := stateOf(s, 2); errno != api.OK && !after.same(before) {
+		after := allOf(s, 2)
+		if errno != api.OK && !after.same(before) {
 			t.Fatalf("%s answered %d, but it is now %v", what, errno, after)
 		}
-		before = stateOf(s, 2)
+		before = after
 	}
 	for _, a := range odd {
 		for _, b := range odd {
 			ask("Destroy", s.Destroy(a, b))
 			ask("Destroy", s.Destroy(guids[4], a, b))
+			_, errno := s.Send(a, b)
+			ask("Send", errno)
+			_, errno = s.Receive(streamOf(a, b, 1, 2, "\x00lost", "\x01lost"))
+			ask("Receive", errno)
 		}
 		_, errno := s.Snap(a)
 		ask("Snap", errno)
@@ -69,6 +75,10 @@ func TestP1AnErrorChangesNothing(t *testing.T) {
 		for _, data := range []string{"", "abc", "abcd", "abcde"} {
 			ask("Write", s.Write(a, data))
 		}
+	}
+	for _, text := range notStreams() {
+		_, errno := s.Receive(text)
+		ask("Receive", errno)
 	}
 }
 
@@ -116,11 +126,13 @@ func TestP2WhatIsHandedInStays(t *testing.T) {
 	checkGuids(t, s, guids[2], guids[4])
 }
 
-// model is a store as the words of P5 to P7 tell it, without thrift: each snapshot has the whole volume, and all that ever came are remembered.
+// model is a store as the words of P5 to P9 tell it, without thrift: each snapshot has the whole volume, and all that ever came and all that was written is remembered.
 type model struct {
 	id     int
+	taken  int
 	volume []string
 	all    []old
+	writes []written
 }
 
 type old struct {
@@ -129,11 +141,20 @@ type old struct {
 	there, marked bool
 }
 
+// written is a block that was written, behind so many snapshots; lost: a Receive has taken it back.
+type written struct {
+	block, behind int
+	lost          bool
+}
+
+// at tells where the snapshot or mark of this guid stands; -1: there is neither.
+func (m *model) at(guid int) int {
+	return slices.IndexFunc(m.all, func(o old) bool { return o.Guid == guid && (o.there || o.marked) })
+}
+
 func (m *model) find(guid int) *old {
-	for i := range m.all {
-		if m.all[i].Guid == guid {
-			return &m.all[i]
-		}
+	if at := m.at(guid); at >= 0 {
+		return &m.all[at]
 	}
 	return &old{}
 }
@@ -148,13 +169,75 @@ func (m *model) count(is func(old) bool) int {
 	return count
 }
 
+func (m *model) write(block int, data string) {
+	m.volume[block] = data
+	m.writes = append(m.writes, written{block, len(m.all), false})
+}
+
+func (m *model) add(guid, time int) {
+	m.all = append(m.all, old{api.Snapshot{Guid: guid, Time: time}, slices.Clone(m.volume), true, false})
+}
+
+func (m *model) isFull() bool {
+	return m.count(func(o old) bool { return o.there }) == api.MaxSnaps
+}
+
 func (m *model) snap(time int) (int, api.Errno) {
-	if m.count(func(o old) bool { return o.there }) == api.MaxSnaps {
+	if m.isFull() {
 		return 0, api.ErrFull
 	}
-	guid := m.id*api.Thousands + len(m.all) + 1
-	m.all = append(m.all, old{api.Snapshot{Guid: guid, Time: time}, slices.Clone(m.volume), true, false})
-	return guid, api.OK
+	for m.taken++; m.at(m.id*api.Thousands+m.taken) >= 0; {
+		m.taken++
+	}
+	m.add(m.id*api.Thousands+m.taken, time)
+	return m.all[len(m.all)-1].Guid, api.OK
+}
+
+func (m *model) send(from, to int) (string, api.Errno) {
+	start, end := m.at(from), m.at(to)
+	switch {
+	case end < 0 || !m.all[end].there || (from != 0 && start < 0):
+		return "", api.ErrNone
+	case start >= end:
+		return "", api.ErrArg
+	}
+	var follow []string
+	for block := range m.volume {
+		counts := func(w written) bool { return w.block == block && w.behind > start && w.behind <= end && !w.lost }
+		if from == 0 || slices.ContainsFunc(m.writes, counts) {
+			follow = append(follow, string([]byte{byte(block)})+m.all[end].volume[block])
+		}
+	}
+	return streamOf(from, to, m.all[end].Time, len(m.volume), follow...), api.OK
+}
+
+// receive takes in a stream of the right form: of all blocks if it has the base 0.
+func (m *model) receive(from, to, time, blocks int, follow map[int]string) (int, api.Errno) {
+	base := len(m.all) - 1
+	for base >= 0 && !m.all[base].there {
+		base--
+	}
+	switch {
+	case blocks != len(m.volume):
+		return 0, api.ErrBase
+	case m.at(to) >= 0:
+		return 0, api.ErrDup
+	case (from == 0) != (base < 0) || (from != 0 && m.all[base].Guid != from):
+		return 0, api.ErrBase
+	case m.isFull():
+		return 0, api.ErrFull
+	}
+	for i := range m.writes {
+		m.writes[i].lost = m.writes[i].lost || m.writes[i].behind > base
+	}
+	if from != 0 {
+		m.volume = slices.Clone(m.all[base].volume)
+	}
+	for block, data := range follow {
+		m.write(block, data)
+	}
+	m.add(to, time)
+	return to, api.OK
 }
 
 func (m *model) hold(guid int) api.Errno {
@@ -241,16 +324,65 @@ func (m *model) state() state {
 	return seen
 }
 
+// near is a guid that is, was or will soon be that of a snapshot.
+func (m *model) near(dice *rand.Rand) int {
+	if len(m.all) == 0 || dice.Intn(8) == 0 {
+		return m.id*api.Thousands + m.taken + 1 + dice.Intn(3)
+	}
+	return m.all[max(0, len(m.all)-1-dice.Intn(20))].Guid
+}
+
+// newest is the guid of the snapshot that came last; 0: there is none.
+func (m *model) newest() int {
+	for _, one := range slices.Backward(m.all) {
+		if one.there {
+			return one.Guid
+		}
+	}
+	return 0
+}
+
+func bytesOf(dice *rand.Rand) string {
+	return string([]byte{byte(dice.Intn(256)), 1, 2, byte(dice.Intn(256))})
+}
+
+// stepStream lets both take in the same stream.
+func stepStream(dice *rand.Rand, s *snap.Store, m *model) (got, want int, g, w api.Errno) {
+	from, to, blocks := m.newest(), m.near(dice), len(m.volume)
+	if dice.Intn(3) > 0 {
+		to = 1 + dice.Intn(maxGuid)
+	}
+	if dice.Intn(10) == 0 {
+		from = m.near(dice)
+	}
+	if dice.Intn(20) == 0 {
+		blocks = 1 + dice.Intn(api.MaxBlocks)
+	}
+	if from == to {
+		from = 0
+	}
+	data, follow := map[int]string{}, []string{}
+	for block := range blocks {
+		if from == 0 || dice.Intn(4) == 0 {
+			data[block] = bytesOf(dice)
+			follow = append(follow, string([]byte{byte(block)})+data[block])
+		}
+	}
+	got, g = s.Receive(streamOf(from, to, 7, blocks, follow...))
+	want, w = m.receive(from, to, 7, blocks, data)
+	return got, want, g, w
+}
+
 // step does one thing, drawn by the dice, to both, and tells what each answered.
 func step(dice *rand.Rand, s *snap.Store, m *model) (got, want [2]int) {
-	guid := m.id*api.Thousands + max(0, len(m.all)-dice.Intn(20)) + 1
+	guid := m.near(dice)
 	var g, w api.Errno
-	switch dice.Intn(10) {
-	case 0, 1:
-		block, data := dice.Intn(len(m.volume)), string([]byte{byte(dice.Intn(256)), 1, 2, byte(dice.Intn(256))})
+	switch dice.Intn(12) {
+	case 0, 1, 2:
+		block, data := dice.Intn(len(m.volume)), bytesOf(dice)
 		g = s.Write(block, data)
-		m.volume[block] = data
-	case 2, 3, 4:
+		m.write(block, data)
+	case 3, 4:
 		time := dice.Intn(100)
 		got[0], g = s.Snap(time)
 		want[0], w = m.snap(time)
@@ -258,25 +390,42 @@ func step(dice *rand.Rand, s *snap.Store, m *model) (got, want [2]int) {
 		g, w = s.Hold(guid), m.hold(guid)
 	case 6:
 		g, w = s.Release(guid), m.release(guid)
-	case 7:
+	case 7, 8:
 		guids := make([]int, dice.Intn(4))
 		for i := range guids {
-			guids[i] = guid + dice.Intn(5)
+			guids[i] = m.near(dice)
 		}
 		g, w = s.Destroy(guids...), m.destroy(guids)
-	case 8:
-		g, w = s.Mark(guid), m.mark(guid)
 	case 9:
+		g, w = s.Mark(guid), m.mark(guid)
+	case 10:
 		g, w = s.Unmark(guid), m.unmark(guid)
 		if dice.Intn(4) > 0 && w == api.OK { // so that the marks come to be full
 			g, w = s.Mark(guid), m.mark(guid)
 		}
+	case 11:
+		got[0], want[0], g, w = stepStream(dice, s, m)
 	}
 	got[1], want[1] = int(g), int(w)
 	return got, want
 }
 
-func TestP5ToP7AgainstAModel(t *testing.T) {
+// checkSends asks for each stream that there may be.
+func checkSends(t *testing.T, s *snap.Store, m *model) {
+	t.Helper()
+	guids := []int{0}
+	for _, one := range m.all[max(0, len(m.all)-30):] {
+		guids = append(guids, one.Guid)
+	}
+	for _, from := range guids {
+		for _, to := range guids {
+			want, errno := m.send(from, to)
+			checkSend(t, s, from, to, want, errno)
+		}
+	}
+}
+
+func TestP5ToP10AgainstAModel(t *testing.T) {
 	for seed := range int64(40) {
 		dice := rand.New(rand.NewSource(seed))
 		blocks := 1 + dice.Intn(api.MaxBlocks)
@@ -288,6 +437,15 @@ func TestP5ToP7AgainstAModel(t *testing.T) {
 			}
 			if got, want := stateOf(s, blocks), m.state(); !got.same(want) {
 				t.Fatalf("seed %d, step %d: it is %v, want %v", seed, n, got, want)
+			}
+			if dice.Intn(25) == 0 {
+				checkSends(t, s, m)
+			}
+			if dice.Intn(50) == 0 {
+				s = open(t, s.Log())
+			}
+			if t.Failed() {
+				t.Fatalf("seed %d, step %d", seed, n)
 			}
 		}
 	}
