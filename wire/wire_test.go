@@ -147,3 +147,52 @@ func TestP9StreamsThatMayNotBe(t *testing.T) {
 		}
 	}
 }
+
+// letters are some that may be, with their texts.
+func letters() map[string]Letter {
+	return map[string]Letter{
+		"A\x00\x00\x00\x00\x01":                     {Kind: 'A', Number: 1},
+		"A\x02\xff\xff\xff\xff":                     {Kind: 'A', Peer: 2, Number: 1<<32 - 1},
+		"D\x01\x00\x00\x01\x02":                     {Kind: 'D', Peer: 1, Number: 258},
+		"D\x01\x00\x00\x01\x02SND1":                 {Kind: 'D', Peer: 1, Number: 258, Stream: "SND1"},
+		"H\x00\x00\x00\x00\x00\x00\x00\x00\x00":     {Kind: 'H'},
+		"H\x02\x00\x00\x00\x03\x00\x6a\xcf\xc1":     {Kind: 'H', Peer: 2, Number: 3, Guid: 7000001},
+		"G\x01\x01\x00\x00\x00\x3b\x9a\xc9\xff":     {Kind: 'G', Peer: 1, Number: 1 << 24, Guid: maxGuid},
+		"G\x00\x00\x00\x00\x00\xff\xff\xff\xff":     {Kind: 'G', Guid: 1<<32 - 1},
+		"D\x00\x00\x00\x00\x00" + withCheck("SND1"): {Kind: 'D', Stream: withCheck("SND1")},
+	}
+}
+
+func TestP11LettersByteByByte(t *testing.T) {
+	for text, letter := range letters() {
+		if got := letter.Text(); got != text {
+			t.Errorf("the text of %v is %q, want %q", letter, got, text)
+		}
+		if got, ok := ParseLetter(text); !ok || got != letter {
+			t.Errorf("%q is read as %v, %v, want %v", text, got, ok, letter)
+		}
+	}
+}
+
+func TestP11TextsThatAreNoLetters(t *testing.T) {
+	none := []string{"", "A", "D", "H", "G"}
+	for text, letter := range letters() {
+		for i := range min(len(text), 6) {
+			none = append(none, text[:i])
+		}
+		if letter.Kind != Data {
+			none = append(none, text[:len(text)-1], text+"\x00", text+text)
+		}
+		for _, kind := range "\x00adhgBCE\x7f" {
+			none = append(none, string(kind)+text[1:])
+		}
+		for _, peer := range []byte{api.MaxPeers, api.MaxPeers + 1, '0', 128, 255} {
+			none = append(none, text[:1]+string([]byte{peer})+text[2:])
+		}
+	}
+	for _, text := range none {
+		if got, ok := ParseLetter(text); ok || got != (Letter{}) {
+			t.Errorf("%q is read as %v, %v", text, got, ok)
+		}
+	}
+}
